@@ -1,0 +1,1 @@
+"""Farorders: orders that lie far from one another."""

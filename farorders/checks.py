@@ -1,0 +1,28 @@
+"""What is asked of numbers and ways before anything is done with them."""
+
+from farorders.errors import NoNumber, NoWay
+
+WAYS = ("swap", "spot", "shift")
+
+
+def is_whole(thing):
+    """Whether anything is a whole number; True and False are none."""
+    return isinstance(thing, int) and not isinstance(thing, bool)
+
+
+def check_way(thing):
+    """Refuse what is no way."""
+    if not isinstance(thing, str) or thing not in WAYS:
+        raise NoWay("a way is swap, spot or shift")
+
+
+def check_from(thing, least):
+    """Refuse what is no whole number from the least on."""
+    if not is_whole(thing) or thing < least:
+        raise NoNumber(f"not a whole number from {least} on")
+
+
+def check_size(thing, most):
+    """Refuse what is no number of things from 1 to the most."""
+    if not is_whole(thing) or thing < 1 or thing > most:
+        raise NoNumber(f"not a whole number from 1 to {most}")
