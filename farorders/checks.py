@@ -26,3 +26,10 @@ def check_size(thing, most):
     """Refuse what is no number of things from 1 to the most."""
     if not is_whole(thing) or thing < 1 or thing > most:
         raise NoNumber(f"not a whole number from 1 to {most}")
+
+
+def check_apart(way, n, most, d):
+    """Refuse what is no way, no number of things from 1 to the most, or no d from 1 on."""
+    check_way(way)
+    check_size(n, most)
+    check_from(d, 1)

@@ -4,6 +4,9 @@ from farorders.checks import check_way, is_whole
 from farorders.errors import NoFit, NoOrder
 
 MOST_THINGS = 12
+# All orders are gone through of no more things than these.
+MOST_LISTED = 6
+MOST_ORDERS = 120
 
 
 def is_order(thing):
@@ -32,6 +35,24 @@ def check_fit(one, other):
     """Refuse two orders that are not of as many things."""
     if len(one) != len(other):
         raise NoFit("the orders are not of as many things")
+
+
+def check_listed(order):
+    """Refuse an order of so many things that not all orders are gone through."""
+    if len(order) > MOST_LISTED:
+        raise NoFit("the orders have more than six things")
+
+
+def is_order_list(thing):
+    """Whether anything is a list of orders of as many things, perhaps alike, perhaps none."""
+    if not isinstance(thing, list) or not all([is_order(each) for each in thing]):
+        return False
+    return all([len(order) == len(thing[0]) for order in thing])
+
+
+def is_unlike_list(thing):
+    """Whether anything is a list of unlike orders of as many things, perhaps none."""
+    return is_order_list(thing) and len({tuple(order) for order in thing}) == len(thing)
 
 
 def back_of(order):
@@ -66,6 +87,11 @@ def how_far(way, one, other):
     check_orders(one, other)
     check_way(way)
     check_fit(one, other)
+    return known_far(way, one, other)
+
+
+def known_far(way, one, other):
+    """How far two orders are, where all that is asked is known to fit."""
     if way == "swap":
         return far_by_swap(one, other)
     if way == "spot":
@@ -94,7 +120,20 @@ def far_by_shift(one, other):
 
 def all_orders(n):
     """All orders of n things, in order as lists are."""
+    return orders_with([list(range(n))] * n)
+
+
+def orders_with(choices):
+    """All orders that have at each place one of its choices, in order as lists are."""
     begun = [[]]
-    for length in range(n):
-        begun = [start + [thing] for start in begun for thing in range(n) if thing not in start]
+    for things in choices:
+        begun = [start + [thing] for start in begun for thing in things if thing not in start]
     return begun
+
+
+def count_orders(n):
+    """How many orders of n things there are."""
+    many = 1
+    for things in range(1, n + 1):
+        many *= things
+    return many

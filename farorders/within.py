@@ -1,10 +1,7 @@
 """How many orders lie within a distance of one order, and which."""
 
 from farorders.checks import check_from, check_size, check_way
-from farorders.errors import NoFit
-from farorders.orders import MOST_THINGS, all_orders, check_order, how_far
-
-MOST_LISTED = 6
+from farorders.orders import MOST_THINGS, all_orders, check_listed, check_order, known_far
 
 
 def count_within(way, n, r):
@@ -105,7 +102,6 @@ def all_within(way, order, r):
     """All orders within r of an order of at most six things, sorted."""
     check_order(order)
     check_way(way)
-    if len(order) > MOST_LISTED:
-        raise NoFit("the order has more than six things")
+    check_listed(order)
     check_from(r, 0)
-    return [other for other in all_orders(len(order)) if how_far(way, order, other) <= r]
+    return [other for other in all_orders(len(order)) if known_far(way, order, other) <= r]

@@ -8,6 +8,8 @@ import unittest
 from farorders.errors import OrderError
 
 WAYS = ("swap", "spot", "shift")
+# The greatest number of twenty-six figures.
+LARGE = 10 ** 26 - 1
 
 
 class Anything:
@@ -39,10 +41,33 @@ NO_ORDERS = [
     [*range(11), 10], [*range(11), 12],
 ]
 
+NO_ORDER_LISTS = [
+    None, True, False, 0, 1, -1, 10 ** 25, "", "0", "0 1, 1 0", "-", b"", b"\x00", (), ([0],), ([0, 1], [1, 0]), {},
+    {0: [0]}, {0}, {(0, 1), (1, 0)}, range(1), list, len, Anything(),
+    [0], [1, 0], [0, 1, 2], [None], [True], [False], [""], ["0"], ["01", "10"], [b"\x00"], [()], [(0,)],
+    [(0, 1), (1, 0)], [[]], [[], []], [{}], [{0: 0}], [{0}], [range(1)], [Anything()], [Anything(), Anything()],
+    [[0], 0], [0, [0]], [[0], None], [[0, 1], (1, 0)], [(0, 1), [1, 0]], [[0, 1], []], [[], [0, 1]], [[0, 1], [1, 1]],
+    [[0, 1], [1, 2]], [[0, 1], [1, False]], [[True, False], [0, 1]], [[False]], [[1]], [["0"]], [[0, "1"]],
+    [[0, 1], "10"], [[0, 1], Anything()], [[0, Anything()]], [Anything(), [0, 1]],
+    [[[0, 1], [1, 0]]], [[0, 1], [[1, 0]]], [[[[[[[[[[0]]]]]]]]]],
+    [[0, 1], [0]], [[0], [0, 1]], [[0], [0, 1], [0, 1, 2]], [[0, 1], [1, 0], [0, 2, 1]], [[0, 1, 2], [1, 0]],
+    [list(range(13))], [list(range(12)), list(range(13))], [[0, 1], [1, 0], [10 ** 25, 0]],
+]
+
+ALIKE_LISTS = [
+    [[0], [0]], [[0, 1], [0, 1]], [[0, 1], [1, 0], [0, 1]], [[1, 0], [0, 1], [0, 1]],
+    [list(range(6)), list(range(6))], [list(range(12)), list(range(11, -1, -1)), list(range(12))],
+]
+
 
 def orders(n):
     """All orders of n things, in order as lists are."""
     return [list(order) for order in itertools.permutations(range(n))]
+
+
+def straight(n):
+    """The first order of n things."""
+    return list(range(n))
 
 
 def far(way, one, other):
@@ -56,6 +81,16 @@ def far(way, one, other):
     if way == "spot":
         return sum(one[p] != other[p] for p in things)
     return max(abs(one.index(t) - other.index(t)) for t in things)
+
+
+def greatest(way, n):
+    """The greatest distance of two orders of n things."""
+    return {"swap": n * (n - 1) // 2, "spot": n if n > 1 else 0, "shift": n - 1}[way]
+
+
+def least_far(way, some):
+    """The least distance of any two of a list of orders."""
+    return min(far(way, one, other) for one, other in itertools.combinations(some, 2))
 
 
 def some_orders(n):
@@ -116,7 +151,7 @@ class Asking(unittest.TestCase):
         kept = copy.deepcopy(first)
         second = function(*given)
         self.assert_told(kept, second)
-        lists = lists_in(first) + lists_in(second) + lists_in(list(given))[1:]
+        lists = lists_in(first) + lists_in(second) + lists_in(given)
         self.assertEqual(len(lists), len({id(each) for each in lists}))
         for each in lists_in(first):
             each.append("spoilt")
@@ -127,7 +162,7 @@ class Asking(unittest.TestCase):
 
 
 def lists_in(thing):
-    """The list itself, and all lists within it."""
-    if not isinstance(thing, list):
-        return []
-    return [thing] + [inner for each in thing for inner in lists_in(each)]
+    """All lists in a thing: itself, where it is one, and those within it and within tuples."""
+    itself = [thing] if isinstance(thing, list) else []
+    within = thing if isinstance(thing, (list, tuple)) else []
+    return itself + [inner for each in within for inner in lists_in(each)]

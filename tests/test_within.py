@@ -6,15 +6,11 @@ import unittest
 from farorders.errors import NoFit, NoNumber, NoOrder, NoWay
 from farorders.orders import how_far
 from farorders.within import all_within, count_at, count_within
-from tests.helper import NO_ORDERS, NO_WAYS, NO_WHOLES, WAYS, Asking, far, orders, some_orders, steps_run
+from tests.helper import (
+    LARGE, NO_ORDERS, NO_WAYS, NO_WHOLES, WAYS, Asking, far, greatest, orders, some_orders, steps_run
+)
 
 COUNTS = (count_within, count_at)
-LARGE = 10 ** 26 - 1
-
-
-def greatest(way, n):
-    """The greatest distance of two orders of n things."""
-    return {"swap": n * (n - 1) // 2, "spot": n if n > 1 else 0, "shift": n - 1}[way]
 
 
 class Counts(Asking):
