@@ -1,6 +1,6 @@
 """What is asked of numbers and ways before anything is done with them."""
 
-from farorders.errors import NoNumber, NoWay
+from farorders.errors import NoNumber, NoWay, TooMany
 
 WAYS = ("swap", "spot", "shift")
 
@@ -26,6 +26,12 @@ def check_size(thing, most):
     """Refuse what is no number of things from 1 to the most."""
     if not is_whole(thing) or thing < 1 or thing > most:
         raise NoNumber(f"not a whole number from 1 to {most}")
+
+
+def check_few(n, most):
+    """Refuse more things than those of which it can be told without too much being gone through."""
+    if n > most:
+        raise TooMany(f"more than {most} things")
 
 
 def check_apart(way, n, most, d):

@@ -151,18 +151,29 @@ class Asking(unittest.TestCase):
         kept = copy.deepcopy(first)
         second = function(*given)
         self.assert_told(kept, second)
-        lists = lists_in(first) + lists_in(second) + lists_in(given)
-        self.assertEqual(len(lists), len({id(each) for each in lists}))
-        for each in lists_in(first):
-            each.append("spoilt")
-            each.reverse()
+        parts = parts_in(first) + parts_in(second) + parts_in(given)
+        self.assertEqual(len(parts), len({id(each) for each in parts}))
+        for each in parts_in(first):
+            spoil(each)
         self.assert_told(as_it_was, given)
         self.assert_told(kept, second)
         self.assert_told(kept, function(*given))
 
 
-def lists_in(thing):
-    """All lists in a thing: itself, where it is one, and those within it and within tuples."""
-    itself = [thing] if isinstance(thing, list) else []
+def parts_in(thing):
+    """All lists and dicts in a thing: itself, where it is one, and those within it and within tuples."""
+    itself = [thing] if isinstance(thing, (list, dict)) else []
     within = thing if isinstance(thing, (list, tuple)) else []
-    return itself + [inner for each in within for inner in lists_in(each)]
+    if isinstance(thing, dict):
+        within = thing.values()
+    return itself + [inner for each in within for inner in parts_in(each)]
+
+
+def spoil(part):
+    """Change a list or a dict so that it is like none that is told."""
+    if isinstance(part, dict):
+        part.clear()
+        part["spoilt"] = True
+    else:
+        part.append("spoilt")
+        part.reverse()
